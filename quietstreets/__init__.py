@@ -1,0 +1,1 @@
+"""Quietstreets: the fewest signs that keep through traffic out of streets."""

@@ -1,0 +1,125 @@
+"""What holds for every function: which exception comes first, and that nothing is modified."""
+
+import copy
+import unittest
+
+from quietstreets.drives import bars, drive_length, is_drive, is_free
+from quietstreets.errors import InvalidDrive, InvalidSign, InvalidSigns, InvalidStreet, InvalidTown, NoTown
+from quietstreets.towns import are_signs, closed, is_town
+
+from sample_towns import GRID, LINE, LOLLIPOP, SQUARE, WRONG, spoiled
+
+# Each function with arguments that are right and with what is raised for each
+# one that is wrong, in the order of the arguments.
+FUNCTIONS = (
+    (are_signs, (SQUARE, (("shut", 0, 1),)), (InvalidTown,)),
+    (closed, (SQUARE, 0), (InvalidTown, InvalidStreet)),
+    (is_drive, (SQUARE, (0, 1)), (InvalidTown,)),
+    (drive_length, (SQUARE, (0, 1, 3)), (InvalidTown, InvalidDrive)),
+    (bars, (SQUARE, ("way", 0, 1), (0, 1, 3)), (InvalidTown, InvalidSign, InvalidDrive)),
+    (is_free, (SQUARE, (("way", 0, 1),), (0, 1, 3)), (InvalidTown, InvalidSigns, InvalidDrive)),
+)
+
+
+def with_wrong(right, wrong_ones, value):
+    """The arguments with the value in the places of some of them."""
+    return tuple(value if at in wrong_ones else item for at, item in enumerate(right))
+
+
+def subsets(many):
+    """All lists of some of so many numbers, but not of none."""
+    return [[at for at in range(many) if choice >> at & 1] for choice in range(1, 1 << many)]
+
+
+class Exceptions(unittest.TestCase):
+    def test_each_and_the_first_of_several(self):
+        for function, right, errors in FUNCTIONS:
+            for wrong_ones in subsets(len(errors)):
+                for value in WRONG:
+                    with self.subTest(function=function.__name__, wrong=wrong_ones, value=value):
+                        with self.assertRaises(errors[wrong_ones[0]]) as caught:
+                            function(*with_wrong(right, wrong_ones, value))
+                        self.assertIs(type(caught.exception), errors[wrong_ones[0]])
+
+    def test_wrong_towns_of_all_kinds(self):
+        for function, right, _ in FUNCTIONS:
+            for value in spoiled(GRID):
+                with self.assertRaises(InvalidTown):
+                    function(value, *right[1:])
+
+    def test_invalid_town_comes_first(self):
+        for town in (None, SQUARE[:5], list(SQUARE), (4, SQUARE[1], (), (0, 4), (), ())):
+            self.assertRaises(InvalidTown, closed, town, 99)
+            self.assertRaises(InvalidTown, drive_length, town, (0, 0))
+            self.assertRaises(InvalidTown, bars, town, ("way", 0, 3), (0, 0))
+            self.assertRaises(InvalidTown, is_free, town, (("way", 0, 3),), (0, 0))
+
+    def test_others_in_their_order(self):
+        self.assertRaises(InvalidSign, bars, SQUARE, ("way", 0, 3), (0, 0))
+        self.assertRaises(InvalidSign, bars, SQUARE, ("way", 0, 3), (0, 1))
+        self.assertRaises(InvalidDrive, bars, SQUARE, ("way", 0, 1), (0, 0))
+        self.assertRaises(InvalidSigns, is_free, SQUARE, (("way", 0, 3),), (0, 0))
+        self.assertRaises(InvalidSigns, is_free, SQUARE, (("way", 0, 3),), (0, 1))
+        self.assertRaises(InvalidDrive, is_free, SQUARE, (("way", 0, 1),), (0, 0))
+        self.assertRaises(InvalidStreet, closed, LINE, 1)
+        self.assertRaises(NoTown, closed, LINE, 0)
+
+    def test_none_where_a_value_is_asked_about(self):
+        for value in WRONG:
+            self.assertIs(is_town(value), False)
+            self.assertIs(is_drive(SQUARE, value), False)
+            self.assertIs(are_signs(SQUARE, value), False)
+
+
+class NothingIsModified(unittest.TestCase):
+    def call(self, function, *arguments):
+        before = copy.deepcopy(arguments)
+        try:
+            function(*arguments)
+        except ValueError:
+            pass
+        self.assertEqual(arguments, before)
+
+    def test_right_arguments(self):
+        for function, right, _ in FUNCTIONS:
+            self.call(function, *right)
+        for town in (SQUARE, LINE, GRID, LOLLIPOP):
+            self.call(is_town, town)
+            for street in range(len(town[1])):
+                self.call(closed, town, street)
+
+    def test_wrong_arguments_that_could_be_modified(self):
+        lists = (
+            [4, [[0, 1, 1], [0, 2, 2]], [], [0, 1], [], [0]], [["shut", 0, 1]], ["shut", 0, 1], [0, 1, 3], [2, 1, 0],
+            {0: 1, 1: 3}, {"town": [0]}, [[]], (4, [(0, 1, 1)], [], [1, 0], [], [0]), ([0, 1], [1, 0]), {3, 1, 2},
+        )
+        for value in lists:
+            self.call(is_town, value)
+            for function, right, errors in FUNCTIONS:
+                for wrong_ones in subsets(len(right)):
+                    self.call(function, *with_wrong(right, wrong_ones, value))
+        for at, part in enumerate(GRID):
+            if isinstance(part, tuple):
+                self.call(is_town, GRID[:at] + (list(part),) + GRID[at + 1:])
+                self.call(closed, GRID[:at] + (list(part),) + GRID[at + 1:], 0)
+
+    def test_a_call_that_raises_changes_nothing(self):
+        before = [function(*right) for function, right, _ in FUNCTIONS]
+        for function, right, errors in FUNCTIONS:
+            for at in range(len(errors)):
+                self.assertRaises(errors[at], function, *with_wrong(right, [at], [0]))
+        self.assertRaises(NoTown, closed, LINE, 0)
+        self.assertEqual([function(*right) for function, right, _ in FUNCTIONS], before)
+
+    def test_the_same_again(self):
+        for function, right, _ in FUNCTIONS:
+            self.assertEqual(function(*right), function(*right))
+
+    def test_names_of_the_arguments(self):
+        self.assertIs(is_town(value=SQUARE), True)
+        self.assertIs(are_signs(town=SQUARE, value=()), True)
+        self.assertEqual(closed(town=SQUARE, street=0)[1], SQUARE[1][1:])
+        self.assertIs(is_drive(town=SQUARE, value=(0, 1)), True)
+        self.assertEqual(drive_length(town=SQUARE, drive=(0, 1)), 1)
+        self.assertIs(bars(town=SQUARE, sign=("way", 0, 1), drive=(0, 1)), True)
+        self.assertIs(is_free(town=SQUARE, signs=(), drive=(0, 1)), True)
