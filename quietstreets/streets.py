@@ -36,6 +36,15 @@ def direction_lengths(streets):
     return lengths
 
 
+def direction_indexes(streets):
+    """The dict from each direction to the index of its street."""
+    indexes = {}
+    for at, (a, b, _) in enumerate(streets):
+        indexes[(a, b)] = at
+        indexes[(b, a)] = at
+    return indexes
+
+
 def joined_places(streets):
     """The dict from each place that has a street to the list of the places that it is joined with."""
     joined = {}

@@ -1,7 +1,8 @@
 """Towns, signs for a town, and the town with a closed street."""
 
 from quietstreets.checks import are_integers_below, is_integer_within, is_tuple_of
-from quietstreets.errors import InvalidSigns, InvalidStreet, InvalidTown, NoTown
+from quietstreets.errors import InvalidPlace, InvalidSigns, InvalidStreet, InvalidTown, NoTown
+from quietstreets.net import net_under
 from quietstreets.reach import reached_places
 from quietstreets.signs import are_ascending_signs, concerns
 from quietstreets.streets import are_streets
@@ -54,6 +55,20 @@ def require_street(town, value):
         raise InvalidStreet("not an index of a street")
 
 
+def require_place(town, value):
+    """Raises InvalidPlace if value is not a place of the town."""
+    if not is_integer_within(value, 0, town[0] - 1):
+        raise InvalidPlace("not a place")
+
+
+def require_start_and_goal(town, start, goal):
+    """Raises InvalidPlace if start and goal are not two different places of the town."""
+    require_place(town, start)
+    require_place(town, goal)
+    if start == goal:
+        raise InvalidPlace("start and goal are the same")
+
+
 def has_parts_of_town(value):
     """Whether value has the six parts of a town, wherever its free drives lead to."""
     if not is_tuple_of(value, 6, 6):
@@ -85,8 +100,9 @@ def are_houses(places, gates, value):
 
 def can_be_driven_through(town):
     """Whether free drives join all gates, and each house with some gate, there and back."""
-    _, streets, signs, gates, houses, _ = town
-    reached = {start: reached_places(streets, signs, start) for start in gates + houses}
+    _, _, _, gates, houses, _ = town
+    net = net_under(town, ())
+    reached = {start: reached_places(net, start) for start in gates + houses}
     return (
         all([goal in reached[gate] for gate in gates for goal in gates if goal != gate])
         and all([any([house in reached[gate] for gate in gates]) for house in houses])

@@ -7,42 +7,7 @@ from quietstreets.drives import bars, drive_length, is_drive, is_free
 from quietstreets.errors import NoTown
 from quietstreets.towns import are_signs, closed, is_town
 
-KITE = ((0, 1, 3), (0, 2, 1), (1, 2, 2), (1, 3, 5), (2, 3, 4))
-LADLE = ((0, 1, 1), (1, 2, 2), (1, 3, 3), (2, 3, 4), (3, 4, 5))
-
-
-def all_signs(streets):
-    """All signs of the streets, in ascending order."""
-    directions = {(a, b) for a, b, _ in streets} | {(b, a) for a, b, _ in streets}
-    signs = [("way", a, b) for a, b in directions] + [("shut", a, b) for a, b, _ in streets]
-    signs += [("turn", a, b, c) for a, b in directions for d, c in directions if d == b and c != a]
-    return sorted(signs)
-
-
-def bars_by_words(sign, drive):
-    """What point [3] says of a sign and a drive, read literally."""
-    kind, *named = sign
-    for at in range(len(drive) - 1):
-        if kind == "way" and list(drive[at:at + 2]) == named:
-            return True
-        if kind == "shut" and sorted(drive[at:at + 2]) == named:
-            return True
-        if kind == "turn" and list(drive[at:at + 3]) == named:
-            return True
-    return False
-
-
-def drives_without_repeats(streets):
-    """All drives that go by no direction twice; a longer one that leads elsewhere leads nowhere else."""
-    directions = sorted([(a, b) for a, b, _ in streets] + [(b, a) for a, b, _ in streets])
-    waiting = list(directions)
-    found = []
-    while waiting:
-        drive = waiting.pop()
-        found.append(drive)
-        used = list(zip(drive, drive[1:]))
-        waiting += [drive + (c,) for b, c in directions if b == drive[-1] and c != drive[-2] and (b, c) not in used]
-    return found
+from reckoning import KITE, LADLE, all_signs, bars_by_words, drives_without_repeats
 
 
 def ends_of_free_drives(drives, signs):

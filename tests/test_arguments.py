@@ -3,22 +3,46 @@
 import copy
 import unittest
 
+from quietstreets.best import best_drives, count_best
+from quietstreets.demands import growths, home_growths, is_demand, lacks
 from quietstreets.drives import bars, drive_length, is_drive, is_free
-from quietstreets.errors import InvalidDrive, InvalidSign, InvalidSigns, InvalidStreet, InvalidTown, NoTown
+from quietstreets.errors import (
+    InvalidDemand, InvalidDrive, InvalidPlace, InvalidSign, InvalidSigns, InvalidStreet, InvalidTown, NoTown,
+)
+from quietstreets.lengths import is_bound, least_length, table
+from quietstreets.quiet import is_quiet, loud_drives, used_streets
 from quietstreets.towns import are_signs, closed, is_town
 
-from sample_towns import GRID, LINE, LOLLIPOP, SQUARE, WRONG, spoiled
+from sample_towns import GRID, LINE, LOLLIPOP, SQUARE, WRONG, put, spoiled
+
+SIGNS = (("way", 0, 1),)
+PLACES = (InvalidTown, InvalidSigns, InvalidPlace, InvalidPlace)
 
 # Each function with arguments that are right and with what is raised for each
-# one that is wrong, in the order of the arguments.
+# one that is wrong, in the order of the arguments; behind these stand the
+# values that it only looks through.
 FUNCTIONS = (
     (are_signs, (SQUARE, (("shut", 0, 1),)), (InvalidTown,)),
     (closed, (SQUARE, 0), (InvalidTown, InvalidStreet)),
     (is_drive, (SQUARE, (0, 1)), (InvalidTown,)),
     (drive_length, (SQUARE, (0, 1, 3)), (InvalidTown, InvalidDrive)),
     (bars, (SQUARE, ("way", 0, 1), (0, 1, 3)), (InvalidTown, InvalidSign, InvalidDrive)),
-    (is_free, (SQUARE, (("way", 0, 1),), (0, 1, 3)), (InvalidTown, InvalidSigns, InvalidDrive)),
+    (is_free, (SQUARE, SIGNS, (0, 1, 3)), (InvalidTown, InvalidSigns, InvalidDrive)),
+    (least_length, (SQUARE, SIGNS, 0, 3), PLACES),
+    (table, (SQUARE, SIGNS, 0), PLACES[:3]),
+    (is_bound, (SQUARE, SIGNS, 0, [(0, 2, 2), (1, 0, 6), (2, 3, 4), (3, 1, 5)]), PLACES[:3]),
+    (best_drives, (SQUARE, SIGNS, 0, 3), PLACES),
+    (count_best, (SQUARE, SIGNS, 0, 3), PLACES),
+    (is_quiet, (SQUARE, SIGNS), PLACES[:2]),
+    (loud_drives, (SQUARE, SIGNS), PLACES[:2]),
+    (used_streets, (SQUARE, SIGNS), PLACES[:2]),
+    (is_demand, (SQUARE, (2, 0, ((1, 3),))), (InvalidTown,)),
+    (growths, (SQUARE, SIGNS), PLACES[:2]),
+    (home_growths, (put(SQUARE, (4,), (1, 2)), SIGNS), PLACES[:2]),
+    (lacks, (SQUARE, SIGNS, (1, 0, ((0, 1, 3),))), (InvalidTown, InvalidSigns, InvalidDemand)),
 )
+# The names of those that return a list.
+RETURN_LISTS = ["table", "best_drives", "loud_drives", "used_streets", "growths", "home_growths", "lacks"]
 
 
 def with_wrong(right, wrong_ones, value):
@@ -53,6 +77,8 @@ class Exceptions(unittest.TestCase):
             self.assertRaises(InvalidTown, drive_length, town, (0, 0))
             self.assertRaises(InvalidTown, bars, town, ("way", 0, 3), (0, 0))
             self.assertRaises(InvalidTown, is_free, town, (("way", 0, 3),), (0, 0))
+            self.assertRaises(InvalidTown, least_length, town, (("way", 0, 3),), 0, 0)
+            self.assertRaises(InvalidTown, lacks, town, (("way", 0, 3),), (100, 0, ()))
 
     def test_others_in_their_order(self):
         self.assertRaises(InvalidSign, bars, SQUARE, ("way", 0, 3), (0, 0))
@@ -63,12 +89,42 @@ class Exceptions(unittest.TestCase):
         self.assertRaises(InvalidDrive, is_free, SQUARE, (("way", 0, 1),), (0, 0))
         self.assertRaises(InvalidStreet, closed, LINE, 1)
         self.assertRaises(NoTown, closed, LINE, 0)
+        for function in (least_length, best_drives, count_best):
+            self.assertRaises(InvalidSigns, function, SQUARE, (("way", 0, 3),), 0, 0)
+            self.assertRaises(InvalidPlace, function, SQUARE, (("way", 0, 1),), 0, 0)
+        for function in (table, is_bound):
+            arguments = [[]] if function is is_bound else []
+            self.assertRaises(InvalidSigns, function, SQUARE, (("way", 0, 3),), 4, *arguments)
+            self.assertRaises(InvalidPlace, function, SQUARE, (("way", 0, 1),), 4, *arguments)
+        self.assertRaises(InvalidSigns, lacks, SQUARE, (("way", 0, 3),), (100, 0, ()))
+        self.assertRaises(InvalidDemand, lacks, SQUARE, (("way", 0, 1),), (100, 0, ()))
 
     def test_none_where_a_value_is_asked_about(self):
         for value in WRONG:
             self.assertIs(is_town(value), False)
             self.assertIs(is_drive(SQUARE, value), False)
             self.assertIs(are_signs(SQUARE, value), False)
+            self.assertIs(is_demand(SQUARE, value), False)
+            self.assertIs(is_bound(SQUARE, (), 0, value), False)
+
+
+class NewLists(unittest.TestCase):
+    def test_every_returned_list_is_a_new_one(self):
+        seen = []
+        for function, right, _ in FUNCTIONS:
+            first = function(*right)
+            if isinstance(first, list):
+                with self.subTest(function.__name__):
+                    self.assertNotEqual(first, [])
+                    expected = copy.deepcopy(first)
+                    first.reverse()
+                    first.append(None)
+                    self.assertEqual(function(*right), expected)
+                    self.assertIsNot(function(*right), function(*right))
+                    for item in expected:
+                        self.assertNotIsInstance(item, list)
+                    seen.append(function.__name__)
+        self.assertEqual(seen, RETURN_LISTS)
 
 
 class NothingIsModified(unittest.TestCase):

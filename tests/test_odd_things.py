@@ -2,8 +2,13 @@
 
 import unittest
 
+from quietstreets.best import best_drives
+from quietstreets.demands import is_demand, lacks
 from quietstreets.drives import bars, drive_length, is_drive, is_free
-from quietstreets.errors import InvalidDrive, InvalidSign, InvalidSigns, InvalidStreet, InvalidTown
+from quietstreets.errors import (
+    InvalidDemand, InvalidDrive, InvalidPlace, InvalidSign, InvalidSigns, InvalidStreet, InvalidTown,
+)
+from quietstreets.lengths import is_bound, least_length, table
 from quietstreets.towns import are_signs, closed, is_town
 
 from sample_towns import GRID, LOLLIPOP, SQUARE, Agreeable, Touchy, bent
@@ -56,3 +61,22 @@ class OddThings(unittest.TestCase):
     def test_indexes(self):
         for value in ODD:
             self.assertRaises(InvalidStreet, closed, SQUARE, value)
+
+    def test_places(self):
+        for value in ODD:
+            for function in (least_length, best_drives):
+                self.assertRaises(InvalidPlace, function, SQUARE, (), value, 3)
+                self.assertRaises(InvalidPlace, function, SQUARE, (), 0, value)
+                self.assertRaises(InvalidPlace, function, SQUARE, (), value, value)
+            self.assertRaises(InvalidPlace, table, SQUARE, (), value)
+
+    def test_demands(self):
+        for value in [*ODD, *bent((2, 0, ((0, 1), (0, 1, 3))))]:
+            self.assertIs(is_demand(SQUARE, value), False)
+            self.assertRaises(InvalidDemand, lacks, SQUARE, (), value)
+
+    def test_bounds(self):
+        good = ((0, 2, 2), (2, 3, 4), (3, 1, 0))
+        self.assertIs(is_bound(SQUARE, (("shut", 0, 1),), 0, list(good)), True)
+        for value in [*ODD, good, *[list(odd) if isinstance(odd, tuple) else odd for odd in bent(good)]]:
+            self.assertIs(is_bound(SQUARE, (("shut", 0, 1),), 0, value), False)

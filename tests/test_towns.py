@@ -359,8 +359,8 @@ class GoingRound(Cases):
         self.no((places, streets, signs + (("way", 2, 1),), gates, houses, quiet))
         self.no((places, streets, (("shut", 1, 2),) + signs, gates, houses, quiet))
 
-    def test_back_through_the_same_direction(self):
-        # 0, 1, 2, 3, 1, 2, 4: (1, 2) twice, as the first time nobody may go on to 4.
+    def test_round_to_come_by_another_street(self):
+        # 0, 1, 3, 2, 4: those who come to 2 from 1 may not go on to 4.
         streets = ((0, 1, 1), (1, 2, 1), (1, 3, 1), (2, 3, 1), (2, 4, 1))
         self.yes((5, streets, (("turn", 1, 2, 4), ("turn", 4, 2, 1)), (0, 4), (), ()))
         self.no((5, streets, (("turn", 1, 2, 4), ("turn", 3, 2, 4)), (0, 4), (), ()))
