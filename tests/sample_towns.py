@@ -11,6 +11,9 @@ SQUARE_SIGNS = (
     ("way", 2, 0), ("way", 2, 3), ("way", 3, 1), ("way", 3, 2),
 )
 
+# Offers of SQUARE.
+TWO = ((("shut", 0, 1), 3), (("turn", 0, 1, 3), 1), (("way", 1, 0), 1))
+
 # The least town that there is.
 LINE = (2, ((0, 1, 7),), (), (0, 1), (), ())
 

@@ -4,19 +4,26 @@ import copy
 import unittest
 
 from quietstreets.best import best_drives, count_best
+from quietstreets.cheapest import all_cheapest, least_price, sure_signs
 from quietstreets.demands import growths, home_growths, is_demand, lacks
 from quietstreets.drives import bars, drive_length, is_drive, is_free
 from quietstreets.errors import (
-    InvalidDemand, InvalidDrive, InvalidPlace, InvalidSign, InvalidSigns, InvalidStreet, InvalidTown, NoTown,
+    InvalidDemand, InvalidDrive, InvalidNumber, InvalidOffers, InvalidPlace, InvalidSign, InvalidSigns, InvalidStreet,
+    InvalidTown, NoTown,
 )
 from quietstreets.lengths import is_bound, least_length, table
+from quietstreets.offers import are_good, are_offers, price_of
+from quietstreets.papers import is_paper, paper
 from quietstreets.quiet import is_quiet, loud_drives, used_streets
 from quietstreets.towns import are_signs, closed, is_town
+from quietstreets.trades import trades
 
-from sample_towns import GRID, LINE, LOLLIPOP, SQUARE, WRONG, put, spoiled
+from sample_towns import GRID, LINE, LOLLIPOP, SQUARE, TWO, WRONG, put, spoiled
 
 SIGNS = (("way", 0, 1),)
 PLACES = (InvalidTown, InvalidSigns, InvalidPlace, InvalidPlace)
+DEMAND = (2, 0, ((0, 1),))
+QUESTION = (InvalidTown, InvalidOffers, InvalidDemand)
 
 # Each function with arguments that are right and with what is raised for each
 # one that is wrong, in the order of the arguments; behind these stand the
@@ -40,9 +47,21 @@ FUNCTIONS = (
     (growths, (SQUARE, SIGNS), PLACES[:2]),
     (home_growths, (put(SQUARE, (4,), (1, 2)), SIGNS), PLACES[:2]),
     (lacks, (SQUARE, SIGNS, (1, 0, ((0, 1, 3),))), (InvalidTown, InvalidSigns, InvalidDemand)),
+    (are_offers, (SQUARE, TWO), (InvalidTown,)),
+    (price_of, (SQUARE, TWO, (("shut", 0, 1),)), (InvalidTown, InvalidOffers, InvalidSigns)),
+    (are_good, (SQUARE, TWO, DEMAND, (("shut", 0, 1),)), QUESTION + (InvalidSigns,)),
+    (least_price, (SQUARE, TWO, DEMAND), QUESTION),
+    (all_cheapest, (SQUARE, TWO, DEMAND), QUESTION),
+    (sure_signs, (SQUARE, TWO, DEMAND), QUESTION),
+    (paper, (SQUARE, TWO, DEMAND, 2), QUESTION + (InvalidNumber,)),
+    (is_paper, (SQUARE, TWO, DEMAND, 2, [((), ("loud", (0, 1, 3)))]), QUESTION + (InvalidNumber,)),
+    (trades, (SQUARE, TWO, 9), (InvalidTown, InvalidOffers, InvalidNumber)),
 )
 # The names of those that return a list.
-RETURN_LISTS = ["table", "best_drives", "loud_drives", "used_streets", "growths", "home_growths", "lacks"]
+RETURN_LISTS = [
+    "table", "best_drives", "loud_drives", "used_streets", "growths", "home_growths", "lacks",
+    "all_cheapest", "sure_signs", "paper", "trades",
+]
 
 
 def with_wrong(right, wrong_ones, value):
@@ -79,6 +98,8 @@ class Exceptions(unittest.TestCase):
             self.assertRaises(InvalidTown, is_free, town, (("way", 0, 3),), (0, 0))
             self.assertRaises(InvalidTown, least_length, town, (("way", 0, 3),), 0, 0)
             self.assertRaises(InvalidTown, lacks, town, (("way", 0, 3),), (100, 0, ()))
+            self.assertRaises(InvalidTown, are_good, town, TWO[::-1], (100, 0, ()), (("way", 0, 3),))
+            self.assertRaises(InvalidTown, paper, town, TWO[::-1], (100, 0, ()), 100)
 
     def test_others_in_their_order(self):
         self.assertRaises(InvalidSign, bars, SQUARE, ("way", 0, 3), (0, 0))
@@ -98,6 +119,12 @@ class Exceptions(unittest.TestCase):
             self.assertRaises(InvalidPlace, function, SQUARE, (("way", 0, 1),), 4, *arguments)
         self.assertRaises(InvalidSigns, lacks, SQUARE, (("way", 0, 3),), (100, 0, ()))
         self.assertRaises(InvalidDemand, lacks, SQUARE, (("way", 0, 1),), (100, 0, ()))
+        self.assertRaises(InvalidOffers, price_of, SQUARE, TWO[::-1], (("way", 0, 3),))
+        self.assertRaises(InvalidOffers, paper, SQUARE, TWO[::-1], (100, 0, ()), 100)
+        self.assertRaises(InvalidDemand, paper, SQUARE, TWO, (100, 0, ()), 100)
+        self.assertRaises(InvalidNumber, paper, SQUARE, TWO, (99, 0, ()), 100)
+        self.assertRaises(InvalidOffers, trades, SQUARE, TWO[::-1], 100)
+        self.assertRaises(InvalidNumber, trades, SQUARE, TWO, 100)
 
     def test_none_where_a_value_is_asked_about(self):
         for value in WRONG:
@@ -106,6 +133,8 @@ class Exceptions(unittest.TestCase):
             self.assertIs(are_signs(SQUARE, value), False)
             self.assertIs(is_demand(SQUARE, value), False)
             self.assertIs(is_bound(SQUARE, (), 0, value), False)
+            self.assertIs(are_offers(SQUARE, value), False)
+            self.assertIs(is_paper(SQUARE, TWO, DEMAND, 0, value), False)
 
 
 class NewLists(unittest.TestCase):

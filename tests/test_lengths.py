@@ -84,6 +84,16 @@ class LeastLength(unittest.TestCase):
         self.assertEqual(least_length(put(town, (1, 2), (1, 3, 33)), (), 0, 1), 99)
         self.assertEqual(least_length(put(town, (1, 2), (1, 3, 34)), (), 0, 1), 99)
 
+    def test_many_streets_at_the_start(self):
+        # The shorter ones come late in the order of the places.
+        streets = (
+            (0, 1, 20), (0, 2, 50), (0, 3, 50), (0, 4, 2), (0, 5, 20), (0, 6, 1),
+            (1, 4, 9), (1, 5, 1), (2, 3, 2), (2, 5, 2), (3, 4, 5),
+        )
+        town = (7, streets, (), (0, 6), (), ())
+        for goal, length in ((1, 11), (2, 9), (3, 7), (4, 2), (5, 11), (6, 1)):
+            self.assertEqual(least_length(town, (), 0, goal), length)
+
     def test_grid(self):
         self.assertEqual(least_length(GRID, (), 0, 8), 3 + 11)
         self.assertEqual(least_length(GRID, (), 8, 0), 11 + 3)

@@ -3,15 +3,20 @@
 import unittest
 
 from quietstreets.best import best_drives
+from quietstreets.cheapest import least_price
 from quietstreets.demands import is_demand, lacks
 from quietstreets.drives import bars, drive_length, is_drive, is_free
 from quietstreets.errors import (
-    InvalidDemand, InvalidDrive, InvalidPlace, InvalidSign, InvalidSigns, InvalidStreet, InvalidTown,
+    InvalidDemand, InvalidDrive, InvalidNumber, InvalidOffers, InvalidPlace, InvalidSign, InvalidSigns, InvalidStreet,
+    InvalidTown,
 )
 from quietstreets.lengths import is_bound, least_length, table
+from quietstreets.offers import are_good, are_offers, price_of
+from quietstreets.papers import is_paper, paper
 from quietstreets.towns import are_signs, closed, is_town
+from quietstreets.trades import trades
 
-from sample_towns import GRID, LOLLIPOP, SQUARE, Agreeable, Touchy, bent
+from sample_towns import GRID, LOLLIPOP, SQUARE, TWO, Agreeable, Touchy, bent
 
 
 def nested(depth):
@@ -80,3 +85,31 @@ class OddThings(unittest.TestCase):
         self.assertIs(is_bound(SQUARE, (("shut", 0, 1),), 0, list(good)), True)
         for value in [*ODD, good, *[list(odd) if isinstance(odd, tuple) else odd for odd in bent(good)]]:
             self.assertIs(is_bound(SQUARE, (("shut", 0, 1),), 0, value), False)
+
+    def test_offers(self):
+        for value in [*ODD, *bent(TWO)]:
+            self.assertIs(are_offers(SQUARE, value), False)
+            for function in (least_price, trades):
+                self.assertRaises(InvalidOffers, function, SQUARE, value, None)
+
+    def test_bought_signs(self):
+        for value in [*ODD, *bent((("shut", 0, 1), ("way", 1, 0)))]:
+            self.assertRaises(InvalidSigns, price_of, SQUARE, TWO, value)
+            self.assertRaises(InvalidSigns, are_good, SQUARE, TWO, (2, 0, ()), value)
+
+    def test_numbers(self):
+        for value in ODD:
+            self.assertRaises(InvalidNumber, trades, SQUARE, TWO, value)
+            self.assertRaises(InvalidNumber, paper, SQUARE, TWO, (2, 0, ()), value)
+            self.assertRaises(InvalidNumber, is_paper, SQUARE, TWO, (2, 0, ()), value, value)
+
+    def test_papers(self):
+        good = (((), ("loud", (0, 1, 3))), ((("turn", 0, 1, 3),), ("loud", (3, 1, 0))))
+        offers = TWO[1:2]
+        self.assertIs(is_paper(SQUARE, offers, (2, 0, ()), 9, list(good)), True)
+        for value in [*ODD, good, *[list(odd) if isinstance(odd, tuple) else odd for odd in bent(good)]]:
+            self.assertIs(is_paper(SQUARE, offers, (2, 0, ()), 9, value), False)
+        good = (((), ("loud", (0, 1, 3))), ((("turn", 0, 1, 3),), ("lack", ("through", 0, 3))))
+        self.assertIs(is_paper(SQUARE, offers, (1, 0, ()), 9, list(good)), True)
+        for value in bent(good):
+            self.assertIs(is_paper(SQUARE, offers, (1, 0, ()), 9, list(value) if isinstance(value, tuple) else value), False)
