@@ -22,9 +22,7 @@ def growths(town, signs):
     """The ascending list of tuples (g, h, growth) for all pairs of a gate and another gate."""
     require_town(town)
     require_signs(town, signs)
-    told = growths_by_lack(rim_lengths(town, ()), rim_lengths(town, signs))
-    gates = town[3]
-    return [(gate, other, told[("through", gate, other)]) for gate in gates for other in gates if other != gate]
+    return growths_between_gates(town, rim_lengths(town, ()), rim_lengths(town, signs))
 
 
 def home_growths(town, signs):
@@ -91,6 +89,13 @@ def least_of(lengths):
 def growths_by_lack(usual, grown):
     """The dict from each lack to the growth from the usual length to the grown one, None if there is none."""
     return {what: None if grown[what] is None else grown[what] - usual[what] for what in usual}
+
+
+def growths_between_gates(town, usual, grown):
+    """The ascending list of tuples (g, h, growth), from the usual lengths to the grown ones."""
+    told = growths_by_lack(usual, grown)
+    gates = town[3]
+    return [(gate, other, told[("through", gate, other)]) for gate in gates for other in gates if other != gate]
 
 
 def lacks_against(town, usual, signs, demand):

@@ -30,7 +30,7 @@ def are_good(town, offers, demand, signs):
     """Whether the town is quiet under the bought signs, and they meet the demand."""
     require_question(town, offers, demand)
     require_bought(town, offers, signs)
-    return not lacks_against(town, rim_lengths(town, ()), signs, demand) and not loud_between_gates(town, signs)
+    return are_good_in(town, demand, signs)
 
 
 def require_question(town, offers, demand):
@@ -81,6 +81,11 @@ def are_bought_of(town, offers, value):
         and all([is_sign(town[1], item) and item in offered for item in value])
         and is_ascending(value)
     )
+
+
+def are_good_in(town, demand, signs):
+    """What are_good tells, for arguments that are known to be right."""
+    return not lacks_against(town, rim_lengths(town, ()), signs, demand) and not loud_between_gates(town, signs)
 
 
 def price_of_bought(offers, bought):

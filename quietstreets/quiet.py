@@ -22,6 +22,11 @@ def used_streets(town, signs):
     """The ascending list of the indexes of the streets through which a best drive between gates goes."""
     require_town(town)
     require_signs(town, signs)
+    return used_between_gates(town, signs)
+
+
+def used_between_gates(town, signs):
+    """What used_streets tells, for a town and signs that are known to be such."""
     indexes = direction_indexes(town[1])
     drives = best_between_gates(town, signs)
     return sorted({indexes[direction] for drive in drives for direction in zip(drive, drive[1:])})

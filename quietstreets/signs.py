@@ -1,7 +1,7 @@
 """Signs of streets, and what they bar."""
 
 from quietstreets.checks import is_ascending
-from quietstreets.streets import goes_along
+from quietstreets.streets import goes_along, goes_through
 
 # How many places each kind of sign names.
 SIGN_PLACES = {"way": 2, "shut": 2, "turn": 3}
@@ -50,7 +50,9 @@ def bar_drive(signs, drive):
 
 def concerns(sign, street):
     """Whether the sign bars a direction of the street or, for a turn, has one."""
-    a, b, _ = street
-    named = sign[1:]
-    directions = list(zip(named, named[1:]))
-    return (a, b) in directions or (b, a) in directions
+    return goes_through(street, sign[1:])
+
+
+def shutting(streets, indexes):
+    """The signs that shut the streets with these indexes, so that just the drives around all of them are free."""
+    return tuple([("shut", a, b) for at, (a, b, _) in enumerate(streets) if at in indexes])

@@ -54,6 +54,13 @@ def joined_places(streets):
     return joined
 
 
+def goes_through(street, places):
+    """Whether the places, in a row, have a direction of the street."""
+    a, b, _ = street
+    directions = list(zip(places, places[1:]))
+    return (a, b) in directions or (b, a) in directions
+
+
 def goes_along(streets, value):
     """Whether value is a drive along the streets, signs left aside."""
     if not isinstance(value, tuple) or len(value) < 2:

@@ -5,16 +5,20 @@ import unittest
 
 from quietstreets.best import best_drives, count_best
 from quietstreets.cheapest import all_cheapest, least_price, sure_signs
+from quietstreets.closures import closing_growths, dearest_street
 from quietstreets.demands import growths, home_growths, is_demand, lacks
 from quietstreets.drives import bars, drive_length, is_drive, is_free
 from quietstreets.errors import (
     InvalidDemand, InvalidDrive, InvalidNumber, InvalidOffers, InvalidPlace, InvalidSign, InvalidSigns, InvalidStreet,
-    InvalidTown, NoTown,
+    InvalidTown, NoTown, NotGood,
 )
 from quietstreets.lengths import is_bound, least_length, table
+from quietstreets.needless import breaking_streets, needless_signs
 from quietstreets.offers import are_good, are_offers, price_of
 from quietstreets.papers import is_paper, paper
+from quietstreets.parting import closure_paper, fewest_closures, is_closure_paper, parting_closures
 from quietstreets.quiet import is_quiet, loud_drives, used_streets
+from quietstreets.quietable import can_be_quiet, greatest_quiet
 from quietstreets.towns import are_signs, closed, is_town
 from quietstreets.trades import trades
 
@@ -24,6 +28,7 @@ SIGNS = (("way", 0, 1),)
 PLACES = (InvalidTown, InvalidSigns, InvalidPlace, InvalidPlace)
 DEMAND = (2, 0, ((0, 1),))
 QUESTION = (InvalidTown, InvalidOffers, InvalidDemand)
+TWO_SIGNS = (("turn", 0, 1, 3), ("way", 1, 0))
 
 # Each function with arguments that are right and with what is raised for each
 # one that is wrong, in the order of the arguments; behind these stand the
@@ -56,11 +61,22 @@ FUNCTIONS = (
     (paper, (SQUARE, TWO, DEMAND, 2), QUESTION + (InvalidNumber,)),
     (is_paper, (SQUARE, TWO, DEMAND, 2, [((), ("loud", (0, 1, 3)))]), QUESTION + (InvalidNumber,)),
     (trades, (SQUARE, TWO, 9), (InvalidTown, InvalidOffers, InvalidNumber)),
+    (can_be_quiet, (SQUARE, TWO, DEMAND, (0, 2)), QUESTION + (InvalidStreet,)),
+    (greatest_quiet, (SQUARE, TWO, DEMAND), QUESTION),
+    (needless_signs, (SQUARE, TWO, (2, 0, ()), (("shut", 0, 1), ("way", 1, 0))), QUESTION + (InvalidSigns,)),
+    (breaking_streets, (SQUARE, TWO, DEMAND, TWO_SIGNS), QUESTION + (InvalidSigns,)),
+    (closing_growths, (SQUARE, SIGNS, 0), PLACES[:2] + (InvalidStreet,)),
+    (dearest_street, (SQUARE, SIGNS), PLACES[:2]),
+    (fewest_closures, (SQUARE, SIGNS, 0, 3), PLACES),
+    (parting_closures, (SQUARE, SIGNS, 0, 3), PLACES),
+    (closure_paper, (SQUARE, SIGNS, 0, 3, 1), PLACES + (InvalidNumber,)),
+    (is_closure_paper, (SQUARE, SIGNS, 0, 3, 0, [((), ("many",))]), PLACES + (InvalidNumber,)),
 )
 # The names of those that return a list.
 RETURN_LISTS = [
     "table", "best_drives", "loud_drives", "used_streets", "growths", "home_growths", "lacks",
-    "all_cheapest", "sure_signs", "paper", "trades",
+    "all_cheapest", "sure_signs", "paper", "trades", "greatest_quiet", "needless_signs", "breaking_streets",
+    "closing_growths", "parting_closures", "closure_paper",
 ]
 
 
@@ -125,6 +141,18 @@ class Exceptions(unittest.TestCase):
         self.assertRaises(InvalidNumber, paper, SQUARE, TWO, (99, 0, ()), 100)
         self.assertRaises(InvalidOffers, trades, SQUARE, TWO[::-1], 100)
         self.assertRaises(InvalidNumber, trades, SQUARE, TWO, 100)
+        self.assertRaises(InvalidDemand, can_be_quiet, SQUARE, TWO, (100, 0, ()), (4,))
+        self.assertRaises(InvalidStreet, can_be_quiet, SQUARE, TWO, (99, 0, ()), (4,))
+        for function in (needless_signs, breaking_streets):
+            self.assertRaises(InvalidDemand, function, SQUARE, TWO, (100, 0, ()), (("way", 0, 1),))
+            self.assertRaises(InvalidSigns, function, SQUARE, TWO, (99, 0, ()), (("way", 0, 1),))
+            self.assertRaises(NotGood, function, SQUARE, TWO, (99, 0, ()), (("way", 1, 0),))
+        self.assertRaises(InvalidSigns, closing_growths, SQUARE, (("way", 0, 3),), 4)
+        self.assertRaises(InvalidStreet, closing_growths, SQUARE, (("way", 0, 1),), 4)
+        for function, rest in ((closure_paper, []), (is_closure_paper, [[]])):
+            self.assertRaises(InvalidSigns, function, SQUARE, (("way", 0, 3),), 0, 0, 15, *rest)
+            self.assertRaises(InvalidPlace, function, SQUARE, (("way", 0, 1),), 0, 0, 15, *rest)
+            self.assertRaises(InvalidNumber, function, SQUARE, (("way", 0, 1),), 0, 1, 15, *rest)
 
     def test_none_where_a_value_is_asked_about(self):
         for value in WRONG:
@@ -135,6 +163,7 @@ class Exceptions(unittest.TestCase):
             self.assertIs(is_bound(SQUARE, (), 0, value), False)
             self.assertIs(are_offers(SQUARE, value), False)
             self.assertIs(is_paper(SQUARE, TWO, DEMAND, 0, value), False)
+            self.assertIs(is_closure_paper(SQUARE, (), 0, 3, 0, value), False)
 
 
 class NewLists(unittest.TestCase):
@@ -194,6 +223,7 @@ class NothingIsModified(unittest.TestCase):
             for at in range(len(errors)):
                 self.assertRaises(errors[at], function, *with_wrong(right, [at], [0]))
         self.assertRaises(NoTown, closed, LINE, 0)
+        self.assertRaises(NotGood, needless_signs, SQUARE, TWO, DEMAND, ())
         self.assertEqual([function(*right) for function, right, _ in FUNCTIONS], before)
 
     def test_the_same_again(self):

@@ -4,6 +4,7 @@ import unittest
 
 from quietstreets.best import best_drives
 from quietstreets.cheapest import least_price
+from quietstreets.closures import closing_growths
 from quietstreets.demands import is_demand, lacks
 from quietstreets.drives import bars, drive_length, is_drive, is_free
 from quietstreets.errors import (
@@ -11,8 +12,11 @@ from quietstreets.errors import (
     InvalidTown,
 )
 from quietstreets.lengths import is_bound, least_length, table
+from quietstreets.needless import breaking_streets, needless_signs
 from quietstreets.offers import are_good, are_offers, price_of
 from quietstreets.papers import is_paper, paper
+from quietstreets.parting import closure_paper, fewest_closures, is_closure_paper
+from quietstreets.quietable import can_be_quiet
 from quietstreets.towns import are_signs, closed, is_town
 from quietstreets.trades import trades
 
@@ -66,10 +70,12 @@ class OddThings(unittest.TestCase):
     def test_indexes(self):
         for value in ODD:
             self.assertRaises(InvalidStreet, closed, SQUARE, value)
+            self.assertRaises(InvalidStreet, closing_growths, SQUARE, (), value)
+            self.assertRaises(InvalidStreet, can_be_quiet, SQUARE, TWO, (2, 0, ()), value)
 
     def test_places(self):
         for value in ODD:
-            for function in (least_length, best_drives):
+            for function in (least_length, best_drives, fewest_closures):
                 self.assertRaises(InvalidPlace, function, SQUARE, (), value, 3)
                 self.assertRaises(InvalidPlace, function, SQUARE, (), 0, value)
                 self.assertRaises(InvalidPlace, function, SQUARE, (), value, value)
@@ -95,13 +101,16 @@ class OddThings(unittest.TestCase):
     def test_bought_signs(self):
         for value in [*ODD, *bent((("shut", 0, 1), ("way", 1, 0)))]:
             self.assertRaises(InvalidSigns, price_of, SQUARE, TWO, value)
-            self.assertRaises(InvalidSigns, are_good, SQUARE, TWO, (2, 0, ()), value)
+            for function in (are_good, needless_signs, breaking_streets):
+                self.assertRaises(InvalidSigns, function, SQUARE, TWO, (2, 0, ()), value)
 
     def test_numbers(self):
         for value in ODD:
             self.assertRaises(InvalidNumber, trades, SQUARE, TWO, value)
             self.assertRaises(InvalidNumber, paper, SQUARE, TWO, (2, 0, ()), value)
             self.assertRaises(InvalidNumber, is_paper, SQUARE, TWO, (2, 0, ()), value, value)
+            self.assertRaises(InvalidNumber, closure_paper, SQUARE, (), 0, 3, value)
+            self.assertRaises(InvalidNumber, is_closure_paper, SQUARE, (), 0, 3, value, value)
 
     def test_papers(self):
         good = (((), ("loud", (0, 1, 3))), ((("turn", 0, 1, 3),), ("loud", (3, 1, 0))))
@@ -113,3 +122,9 @@ class OddThings(unittest.TestCase):
         self.assertIs(is_paper(SQUARE, offers, (1, 0, ()), 9, list(good)), True)
         for value in bent(good):
             self.assertIs(is_paper(SQUARE, offers, (1, 0, ()), 9, list(value) if isinstance(value, tuple) else value), False)
+
+    def test_closure_papers(self):
+        good = (((), ("drive", (0, 1, 3))), ((0,), ("many",)), ((2,), ("many",)))
+        self.assertIs(is_closure_paper(SQUARE, (), 0, 3, 1, list(good)), True)
+        for value in [*ODD, good, *[list(odd) if isinstance(odd, tuple) else odd for odd in bent(good)]]:
+            self.assertIs(is_closure_paper(SQUARE, (), 0, 3, 1, value), False)
