@@ -7,18 +7,22 @@ from quietstreets.best import best_drives, count_best
 from quietstreets.cheapest import all_cheapest, least_price, sure_signs
 from quietstreets.closures import closing_growths, dearest_street
 from quietstreets.demands import growths, home_growths, is_demand, lacks
+from quietstreets.desk import Desk
 from quietstreets.drives import bars, drive_length, is_drive, is_free
 from quietstreets.errors import (
     InvalidDemand, InvalidDrive, InvalidNumber, InvalidOffers, InvalidPlace, InvalidSign, InvalidSigns, InvalidStreet,
-    InvalidTown, NoTown, NotGood,
+    InvalidTown, NoTown, NotGood, ParseError,
 )
 from quietstreets.lengths import is_bound, least_length, table
+from quietstreets.naive import naive_closures, naive_least_price, naive_length
 from quietstreets.needless import breaking_streets, needless_signs
 from quietstreets.offers import are_good, are_offers, price_of
 from quietstreets.papers import is_paper, paper
 from quietstreets.parting import closure_paper, fewest_closures, is_closure_paper, parting_closures
 from quietstreets.quiet import is_quiet, loud_drives, used_streets
 from quietstreets.quietable import can_be_quiet, greatest_quiet
+from quietstreets.shares import moved_shares, shares
+from quietstreets.texts import format_sign, format_town, parse_town
 from quietstreets.towns import are_signs, closed, is_town
 from quietstreets.trades import trades
 
@@ -71,12 +75,20 @@ FUNCTIONS = (
     (parting_closures, (SQUARE, SIGNS, 0, 3), PLACES),
     (closure_paper, (SQUARE, SIGNS, 0, 3, 1), PLACES + (InvalidNumber,)),
     (is_closure_paper, (SQUARE, SIGNS, 0, 3, 0, [((), ("many",))]), PLACES + (InvalidNumber,)),
+    (shares, (SQUARE, SIGNS), PLACES[:2]),
+    (moved_shares, (SQUARE, SIGNS, ("way", 1, 0)), PLACES[:2] + (InvalidSign,)),
+    (format_sign, (SQUARE, ("way", 0, 1)), (InvalidTown, InvalidSign)),
+    (format_town, (SQUARE,), (InvalidTown,)),
+    (Desk, (SQUARE, TWO), (InvalidTown, InvalidOffers)),
+    (naive_length, (SQUARE, SIGNS, 0, 3), PLACES),
+    (naive_least_price, (SQUARE, TWO, DEMAND), QUESTION),
+    (naive_closures, (SQUARE, SIGNS, 0, 3), PLACES),
 )
 # The names of those that return a list.
 RETURN_LISTS = [
     "table", "best_drives", "loud_drives", "used_streets", "growths", "home_growths", "lacks",
     "all_cheapest", "sure_signs", "paper", "trades", "greatest_quiet", "needless_signs", "breaking_streets",
-    "closing_growths", "parting_closures", "closure_paper",
+    "closing_growths", "parting_closures", "closure_paper", "shares", "moved_shares",
 ]
 
 
@@ -153,6 +165,13 @@ class Exceptions(unittest.TestCase):
             self.assertRaises(InvalidSigns, function, SQUARE, (("way", 0, 3),), 0, 0, 15, *rest)
             self.assertRaises(InvalidPlace, function, SQUARE, (("way", 0, 1),), 0, 0, 15, *rest)
             self.assertRaises(InvalidNumber, function, SQUARE, (("way", 0, 1),), 0, 1, 15, *rest)
+        self.assertRaises(InvalidSigns, moved_shares, SQUARE, (("way", 0, 3),), ("way", 0, 3))
+        self.assertRaises(InvalidSign, moved_shares, SQUARE, (("way", 0, 1),), ("way", 0, 1))
+        for function in (naive_length, naive_closures):
+            self.assertRaises(InvalidSigns, function, SQUARE, (("way", 0, 3),), 0, 0)
+            self.assertRaises(InvalidPlace, function, SQUARE, (("way", 0, 1),), 0, 0)
+        self.assertRaises(InvalidOffers, naive_least_price, SQUARE, TWO[::-1], (100, 0, ()))
+        self.assertRaises(InvalidDemand, naive_least_price, SQUARE, TWO, (100, 0, ()))
 
     def test_none_where_a_value_is_asked_about(self):
         for value in WRONG:
@@ -209,6 +228,7 @@ class NothingIsModified(unittest.TestCase):
         )
         for value in lists:
             self.call(is_town, value)
+            self.call(parse_town, value)
             for function, right, errors in FUNCTIONS:
                 for wrong_ones in subsets(len(right)):
                     self.call(function, *with_wrong(right, wrong_ones, value))
@@ -224,6 +244,7 @@ class NothingIsModified(unittest.TestCase):
                 self.assertRaises(errors[at], function, *with_wrong(right, [at], [0]))
         self.assertRaises(NoTown, closed, LINE, 0)
         self.assertRaises(NotGood, needless_signs, SQUARE, TWO, DEMAND, ())
+        self.assertRaises(ParseError, parse_town, "none")
         self.assertEqual([function(*right) for function, right, _ in FUNCTIONS], before)
 
     def test_the_same_again(self):

@@ -32,6 +32,13 @@ ALLOWED_IMPORTS = {
 BARRED_NODES = (
     ast.Global, ast.AsyncFunctionDef, ast.Await, ast.Import, ast.TryStar, ast.AsyncFor, ast.AsyncWith, ast.Div,
 )
+# L5.
+ALLOWED_DOUBLE_UNDERSCORES = {"__init__", "__eq__", "__repr__", "__str__", "__len__"}
+# L25, those that are in use.
+ALLOWED_METHODS = set(
+    "append clear copy count endswith extend find get index insert isalnum isalpha isdigit items join keys lower"
+    " partition pop remove replace reverse rpartition setdefault split startswith strip update upper values isascii".split()
+)
 # L17.
 BARRED_WORDS = re.compile(
     r"\b(typing|typing_extensions|enum|Enum|namedtuple|NamedTuple|abstractmethod|Generic|Protocol|ABC)\b"
@@ -168,6 +175,28 @@ class Language(unittest.TestCase):
                 if isinstance(part, ast.FunctionDef):
                     inner = [name for inside in part.body + [part.args] for name in assigned_names(inside)]
                     self.assertEqual(hidden & set(inner), set(), f"{path} {part.name}")
+
+    def test_classes(self):
+        for path in files():
+            for node in ast.walk(tree(path)):
+                if isinstance(node, ast.ClassDef):
+                    methods = [part.name for part in node.body if isinstance(part, ast.FunctionDef)]
+                    self.assertEqual(len(methods), len(set(methods)), f"{path} {node.name}")
+                    for name in methods:
+                        if name.startswith("__"):
+                            self.assertIn(name, ALLOWED_DOUBLE_UNDERSCORES, f"{path} {node.name}")
+                if isinstance(node, (ast.ClassDef, ast.FunctionDef)):
+                    self.assertEqual(node.decorator_list, [], f"{path} {node.name}")
+
+    def test_methods_that_are_called(self):
+        own = {
+            part.name for path in files() for node in ast.walk(tree(path)) if isinstance(node, ast.ClassDef)
+            for part in node.body if isinstance(part, ast.FunctionDef)
+        }
+        for path in files():
+            for node in ast.walk(tree(path)):
+                if isinstance(node, ast.Call) and isinstance(node.func, ast.Attribute):
+                    self.assertIn(node.func.attr, ALLOWED_METHODS | own, f"{path} {node.lineno}")
 
     def test_words(self):
         for path in files():

@@ -6,17 +6,21 @@ from quietstreets.best import best_drives
 from quietstreets.cheapest import least_price
 from quietstreets.closures import closing_growths
 from quietstreets.demands import is_demand, lacks
+from quietstreets.desk import Desk
 from quietstreets.drives import bars, drive_length, is_drive, is_free
 from quietstreets.errors import (
     InvalidDemand, InvalidDrive, InvalidNumber, InvalidOffers, InvalidPlace, InvalidSign, InvalidSigns, InvalidStreet,
-    InvalidTown,
+    InvalidTown, NotOffered, ParseError,
 )
 from quietstreets.lengths import is_bound, least_length, table
+from quietstreets.naive import naive_closures, naive_least_price, naive_length
 from quietstreets.needless import breaking_streets, needless_signs
 from quietstreets.offers import are_good, are_offers, price_of
 from quietstreets.papers import is_paper, paper
 from quietstreets.parting import closure_paper, fewest_closures, is_closure_paper
 from quietstreets.quietable import can_be_quiet
+from quietstreets.shares import moved_shares, shares
+from quietstreets.texts import format_sign, format_town, parse_town
 from quietstreets.towns import are_signs, closed, is_town
 from quietstreets.trades import trades
 
@@ -46,6 +50,8 @@ class OddThings(unittest.TestCase):
         for value in ODD:
             self.assertIs(is_town(value), False)
             self.assertRaises(InvalidTown, closed, value, 0)
+            self.assertRaises(InvalidTown, format_town, value)
+            self.assertRaises(InvalidTown, Desk, value, value)
         for town in (SQUARE, GRID, LOLLIPOP):
             for value in bent(town):
                 self.assertIs(is_town(value), False)
@@ -56,9 +62,12 @@ class OddThings(unittest.TestCase):
         for value in [*ODD, *bent(signs)]:
             self.assertIs(are_signs(SQUARE, value), False)
             self.assertRaises(InvalidSigns, is_free, SQUARE, value, (0, 1))
+            self.assertRaises(InvalidSigns, shares, SQUARE, value)
         for sign in signs:
             for value in [*ODD, *bent(sign)]:
                 self.assertRaises(InvalidSign, bars, SQUARE, value, (0, 1))
+                self.assertRaises(InvalidSign, moved_shares, SQUARE, (), value)
+                self.assertRaises(InvalidSign, format_sign, SQUARE, value)
 
     def test_drives(self):
         for value in [*ODD, *bent((0, 1, 3))]:
@@ -75,7 +84,7 @@ class OddThings(unittest.TestCase):
 
     def test_places(self):
         for value in ODD:
-            for function in (least_length, best_drives, fewest_closures):
+            for function in (least_length, best_drives, fewest_closures, naive_length, naive_closures):
                 self.assertRaises(InvalidPlace, function, SQUARE, (), value, 3)
                 self.assertRaises(InvalidPlace, function, SQUARE, (), 0, value)
                 self.assertRaises(InvalidPlace, function, SQUARE, (), value, value)
@@ -95,8 +104,9 @@ class OddThings(unittest.TestCase):
     def test_offers(self):
         for value in [*ODD, *bent(TWO)]:
             self.assertIs(are_offers(SQUARE, value), False)
-            for function in (least_price, trades):
+            for function in (least_price, trades, naive_least_price):
                 self.assertRaises(InvalidOffers, function, SQUARE, value, None)
+            self.assertRaises(InvalidOffers, Desk, SQUARE, value)
 
     def test_bought_signs(self):
         for value in [*ODD, *bent((("shut", 0, 1), ("way", 1, 0)))]:
@@ -128,3 +138,16 @@ class OddThings(unittest.TestCase):
         self.assertIs(is_closure_paper(SQUARE, (), 0, 3, 1, list(good)), True)
         for value in [*ODD, good, *[list(odd) if isinstance(odd, tuple) else odd for odd in bent(good)]]:
             self.assertIs(is_closure_paper(SQUARE, (), 0, 3, 1, value), False)
+
+    def test_desks(self):
+        desk = Desk(SQUARE, TWO)
+        desk.buy(("way", 1, 0))
+        for value in [*ODD, *bent(("way", 1, 0))]:
+            self.assertRaises(NotOffered, desk.buy, value)
+            self.assertRaises(NotOffered, desk.give_back, value)
+            self.assertIs(desk == value, False)
+        self.assertEqual(desk.signs(), (("way", 1, 0),))
+
+    def test_texts(self):
+        for value in ODD:
+            self.assertRaises(ParseError, parse_town, value)
